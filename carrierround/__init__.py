@@ -1,0 +1,1 @@
+"""A carrier's round: the least walk, points in its order, forwarding by days."""
