@@ -1,7 +1,8 @@
-"""The calls that change nothing. Each gives back its answer as a list: a number, then rows."""
+"""The calls about ways and walks, which change nothing. Each gives back its answer as a list: a number, then rows."""
 
 from carrierround.plans import make_plan
 from carrierround.refusals import NO_SUCH_STREET, NO_WAY, OUT_OF_RANGE, within
+from carrierround.rows import flat, row
 from carrierround.walks import make_walk, points_in_order
 from carrierround.ways import FAR, connected, distances, is_at, other_end, way
 
@@ -10,22 +11,9 @@ FALLS_SHORT = 1
 DOES_ALL = 2
 
 
-def row(numbers):
-    """The numbers with how many they are ahead of them."""
-    return [len(numbers)] + numbers
-
-
 def numbers_of(streets):
     """The streets' numbers."""
     return [street.number for street in streets]
-
-
-def flat(tuples):
-    """The numbers of all tuples, one behind another."""
-    numbers = []
-    for one in tuples:
-        numbers.extend(one)
-    return numbers
 
 
 def ask_plan(book):

@@ -1,6 +1,7 @@
 """The numbers of the refusals, and what several calls are refused for."""
 
 from carrierround.book import MOST_ORDERS, MOST_POINTS
+from carrierround.ways import connected
 
 FINE = 0
 OUT_OF_RANGE = -1
@@ -11,6 +12,7 @@ NO_WAY = -7
 TOO_MANY = -8
 
 LAST_DAY = 100000
+GREATEST_ORDER = 1000000
 
 
 def within(number, least, greatest):
@@ -38,11 +40,29 @@ def point_refusal(book, point):
     return numbered_refusal(point, MOST_POINTS, len(book.points))
 
 
+def order_refusal(book, number):
+    """What an order's number is refused for."""
+    if not within(number, 1, GREATEST_ORDER):
+        return OUT_OF_RANGE
+    return FINE if number in [order.number for order in book.orders] else NOT_THERE
+
+
+def day_refusal(day):
+    """What a day is refused for."""
+    return FINE if within(day, 0, LAST_DAY) else OUT_OF_RANGE
+
+
 def days_refusal(from_day, to_day):
     """What a day to a day is refused for."""
-    if not within(from_day, 0, LAST_DAY) or not within(to_day, 0, LAST_DAY):
-        return OUT_OF_RANGE
-    return AS_TOLD if to_day < from_day else FINE
+    return first_refusal([
+        day_refusal(from_day),
+        day_refusal(to_day),
+        AS_TOLD if to_day < from_day else FINE])
+
+
+def round_refusal(book):
+    """What all that needs a plan is refused for."""
+    return FINE if connected(book) else NO_WAY
 
 
 def room_refusal(there, most):

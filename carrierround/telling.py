@@ -1,9 +1,12 @@
 """The calls that change the book. Each gives back its answer as a list: a number, then rows."""
 
-from carrierround.book import HELD, MOST_CORNERS, MOST_POINTS, MOST_STREETS
+from carrierround.book import HELD, MOST_CORNERS, MOST_ITEMS, MOST_POINTS, MOST_STREETS, RETURNED, WAITING
+from carrierround.days import make_tour, to_be_returned
 from carrierround.refusals import (
     AS_TOLD, FINE, OUT_OF_RANGE,
-    days_refusal, first_refusal, numbered_refusal, order_room_refusal, point_refusal, room_refusal, within)
+    day_refusal, days_refusal, first_refusal, numbered_refusal, order_refusal, order_room_refusal, point_refusal,
+    room_refusal, round_refusal, within)
+from carrierround.rows import row
 
 MOST_LENGTH = 1000000
 
@@ -78,3 +81,40 @@ def tell_hold(book, point, from_day, to_day):
     if refusal != FINE:
         return [refusal]
     return [book.add_order(point, HELD, from_day, to_day)]
+
+
+def tell_cancel(book, number):
+    """An order that isn't there any more."""
+    refusal = order_refusal(book, number)
+    if refusal != FINE:
+        return [refusal]
+    book.drop_order(number)
+    return [0]
+
+
+def tell_item(book, point, day):
+    """A new item."""
+    refusal = first_refusal([
+        day_refusal(day),
+        point_refusal(book, point),
+        room_refusal(len(book.all_items), MOST_ITEMS)])
+    if refusal != FINE:
+        return [refusal]
+    return [book.add_item(point, day)]
+
+
+def tell_done(book, day):
+    """The day's tour is delivered, and what comes to a ring or too far is returned."""
+    refusal = first_refusal([
+        day_refusal(day),
+        round_refusal(book),
+        AS_TOLD if day < book.last_day else FINE])
+    if refusal != FINE:
+        return [refusal]
+    stops = make_tour(book, day)
+    for item in to_be_returned(book, day):
+        item.give_back(day)
+    for stop in stops:
+        stop.item.deliver(stop.point, day)
+    book.last_day = day
+    return [len(stops)] + row([book.how_many_in(WAITING), book.how_many_in(RETURNED)])

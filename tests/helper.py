@@ -1,4 +1,4 @@
-"""What the tests share: calls by name, answers call by call, and a slow second reckoning to compare with."""
+"""What the tests share: calls by name, answers call by call, and slow second reckonings to compare with."""
 
 from carrierround.house import answers
 
@@ -22,6 +22,7 @@ PLAN = [3]
 WALK = [4]
 ORDER = [5]
 ODD = [7]
+COUNTS = [20]
 
 
 def way(first, second):
@@ -38,6 +39,42 @@ def forward(a_point, to_point, from_day, to_day):
 
 def hold(a_point, from_day, to_day):
     return [10, a_point, from_day, to_day]
+
+
+def cancel(number):
+    return [11, number]
+
+
+def item(a_point, day):
+    return [12, a_point, day]
+
+
+def goes_to(day, a_point):
+    return [13, day, a_point]
+
+
+def tour(day):
+    return [14, day]
+
+
+def done(day):
+    return [15, day]
+
+
+def item_at(number):
+    return [16, number]
+
+
+def street_at(number):
+    return [17, number]
+
+
+def point_at(number):
+    return [18, number]
+
+
+def orders(a_point):
+    return [19, a_point]
 
 
 def split(given):
@@ -206,3 +243,183 @@ class Reckoning:
                 [len(walk), 3 * len(walk)] + [number for step in walk for number in step],
                 [len(order), 2 * len(order)] + [number for one in order for number in one],
                 [len(odd), len(odd)] + [corner for pair in self.pairing() for corner in pair]]
+
+
+class Line:
+    """A line's calls from street to counts, answered by what the document says of orders, items and days."""
+
+    NAMES = {1: "street", 2: "point", 5: "order", 9: "forward", 10: "hold", 11: "cancel", 12: "item", 13: "goes_to",
+             14: "tour", 15: "done", 16: "item_at", 17: "street_at", 18: "point_at", 19: "orders_of", 20: "counts"}
+
+    def __init__(self, n=4, depot=1):
+        self.n, self.depot = n, depot
+        self.streets, self.points = [], []
+        self.orders = {}
+        self.numbers_given = 0
+        self.items = []
+        self.last_day = 0
+
+    def answer(self, call):
+        if call[0] == 0:
+            if not (1 <= call[1] <= 10 and 1 <= call[2] <= call[1]):
+                return [-1]
+            self.__init__(call[1], call[2])
+            return [0]
+        try:
+            return getattr(self, self.NAMES[call[0]])(*call[1:])
+        except Refused as refused:
+            return [refused.number]
+
+    def round(self):
+        return Reckoning(self.n, self.depot, self.streets, self.points)
+
+    def street(self, first, second, length, wide):
+        refuse(-1, not (1 <= first <= self.n and 1 <= second <= self.n and 1 <= length <= 10 ** 6 and wide in (0, 1)))
+        refuse(-6, first == second)
+        refuse(-8, len(self.streets) >= 20)
+        self.streets.append((first, second, length, wide))
+        return [len(self.streets)]
+
+    def point(self, on, side, how_far):
+        refuse(-1, not 1 <= on <= 20 or side not in (0, 1))
+        refuse(-4, on > len(self.streets))
+        refuse(-1, not 0 <= how_far <= self.streets[on - 1][2])
+        refuse(-8, len(self.points) >= 60)
+        self.points.append((on, side, how_far))
+        return [len(self.points)]
+
+    def order(self):
+        refuse(-7, not self.round().connected())
+        found = self.round().order()
+        return [len(found), 2 * len(found)] + [number for one in found for number in one]
+
+    def check_day(self, *days):
+        for day in days:
+            refuse(-1, not 0 <= day <= 100000)
+
+    def check_point(self, number):
+        refuse(-1, not 1 <= number <= 60)
+        refuse(-4, number > len(self.points))
+
+    def new_order(self, *numbers):
+        refuse(-8, len(self.orders) >= 40)
+        self.numbers_given += 1
+        self.orders[self.numbers_given] = numbers
+        return [self.numbers_given]
+
+    def forward(self, a_point, to_point, from_day, to_day):
+        self.check_day(from_day, to_day)
+        refuse(-6, to_day < from_day)
+        self.check_point(a_point)
+        self.check_point(to_point)
+        refuse(-6, a_point == to_point)
+        return self.new_order(a_point, to_point, from_day, to_day)
+
+    def hold(self, a_point, from_day, to_day):
+        self.check_day(from_day, to_day)
+        refuse(-6, to_day < from_day)
+        self.check_point(a_point)
+        return self.new_order(a_point, 0, from_day, to_day)
+
+    def cancel(self, number):
+        refuse(-1, not 1 <= number <= 10 ** 6)
+        refuse(-4, number not in self.orders)
+        self.orders.pop(number)
+        return [0]
+
+    def item(self, a_point, day):
+        self.check_day(day)
+        self.check_point(a_point)
+        refuse(-8, len(self.items) >= 200)
+        self.items.append([0, a_point, day, 0, 0])
+        return [len(self.items)]
+
+    def where(self, day, gone):
+        """Where it goes on from the last of these points, and all that are gone through."""
+        found = [number for number, (a_point, to_point, from_day, to_day) in self.orders.items()
+                 if a_point == gone[-1] and day in range(from_day, to_day + 1)]
+        if not found:
+            return 1, gone
+        to_point = self.orders[max(found)][1]
+        if to_point == 0:
+            return 2, gone
+        if to_point in gone:
+            return 3, gone
+        return (4, gone) if len(gone) == 6 else self.where(day, gone + [to_point])
+
+    def goes_to(self, day, a_point):
+        self.check_day(day)
+        self.check_point(a_point)
+        how, gone = self.where(day, [a_point])
+        return [how, len(gone)] + gone
+
+    def ends(self, day):
+        """For each item that waits and is there, by its number: how it ends and at which point."""
+        found = {}
+        for number, (state, a_point, since, at, when) in enumerate(self.items, start=1):
+            if state == 0 and since <= day:
+                how, gone = self.where(day, [a_point])
+                found[number] = (how, gone[-1])
+        return found
+
+    def stops(self, day):
+        ends = self.ends(day)
+        return [(number, at) for at, far in self.round().order() for number in ends if ends[number] == (1, at)]
+
+    def tour(self, day):
+        self.check_day(day)
+        refuse(-7, not self.round().connected())
+        stops = self.stops(day)
+        return [len(stops), 2 * len(stops)] + [number for stop in stops for number in stop]
+
+    def done(self, day):
+        self.check_day(day)
+        refuse(-7, not self.round().connected())
+        refuse(-6, day < self.last_day)
+        ends = self.ends(day)
+        for number, (how, at) in ends.items():
+            if how != 2:
+                one = self.items[number - 1]
+                one[0], one[3], one[4] = (1, at, day) if how == 1 else (2, 0, day)
+        self.last_day = day
+        states = [one[0] for one in self.items]
+        return [[how for how, at in ends.values()].count(1), 2, states.count(0), states.count(2)]
+
+    def item_at(self, number):
+        refuse(-1, not 1 <= number <= 200)
+        refuse(-4, number > len(self.items))
+        return [self.items[number - 1][0], 4] + self.items[number - 1][1:]
+
+    def street_at(self, number):
+        refuse(-1, not 1 <= number <= 20)
+        refuse(-4, number > len(self.streets))
+        first, second, length, wide = self.streets[number - 1]
+        walked = wide + 1
+        if self.round().connected():
+            walked = [step[0] for step in self.round().walk()].count(number)
+        return [length, 4, first, second, wide, walked]
+
+    def point_at(self, number):
+        self.check_point(number)
+        on, side, how_far = self.points[number - 1]
+        return [on, 2, side, how_far]
+
+    def orders_of(self, a_point):
+        self.check_point(a_point)
+        found = [[4, number] + list(one[1:]) for number, one in self.orders.items() if one[0] == a_point]
+        return [len(found)] + [number for one in found for number in one]
+
+    def counts(self):
+        return [self.n, 7, self.depot, len(self.streets), len(self.points), len(self.orders), len(self.items),
+                self.last_day, int(self.round().connected())]
+
+
+class Refused(Exception):
+    def __init__(self, number):
+        super().__init__(number)
+        self.number = number
+
+
+def refuse(number, is_due):
+    if is_due:
+        raise Refused(number)

@@ -3,11 +3,13 @@
 import unittest
 
 from tests.helper import (
-    GREATEST, LEAST, ODD, ORDER, PLAN, WALK, begin, hold, judge, last, point, run, street, way)
+    COUNTS, GREATEST, LEAST, ODD, ORDER, PLAN, WALK, begin, cancel, done, forward, goes_to, hold, item, item_at, judge,
+    last, orders, point, point_at, run, street, street_at, tour, way)
 
 # A round with something of everything, to see that it stays.
-SOME = [begin(3, 2), street(1, 2, 5), street(2, 3, 6, 1), point(1, 0, 2), point(2, 1, 6), hold(2, 1, 2)]
-ASKED = [PLAN, WALK, ORDER, ODD, way(1, 3), judge(1, 1, 2, 2)]
+SOME = [begin(3, 2), street(1, 2, 5), street(2, 3, 6, 1), point(1, 0, 2), point(2, 1, 6), hold(2, 1, 2),
+        item(1, 3), done(2)]
+ASKED = [PLAN, WALK, ORDER, ODD, way(1, 3), judge(1, 1, 2, 2), COUNTS, item_at(1), orders(2), tour(4)]
 
 
 class Begin(unittest.TestCase):
@@ -28,6 +30,24 @@ class Begin(unittest.TestCase):
         given = run(*SOME, begin(4, 1), PLAN, ORDER, judge(1), point(1, 0, 0), street(1, 2, 9), point(1, 0, 0),
                     hold(2, 0, 0), hold(1, 0, 0))
         self.assertEqual(given[len(SOME):], [[0], [0, 2, 0, 0, 0], [0, 0], [-2], [-4], [1], [1], [-4], [1]])
+
+    def test_nothing_of_what_was_before_is_left(self):
+        before = SOME + [forward(1, 2, 0, 9), item(1, 1), item(2, 2), done(7), item(1, 8)]
+        asked = [COUNTS, item_at(1), street_at(1), point_at(1), orders(1), cancel(1), goes_to(1, 1), tour(9)]
+        given = run(*before, begin(5, 2), *asked)[len(before):]
+        self.assertEqual(given, [[0], [5, 7, 2, 0, 0, 0, 0, 0, 1], [-4], [-4], [-4], [-4], [-4], [-4], [0, 0]])
+
+    def test_a_line_after_begin_is_as_a_new_one(self):
+        line = SOME[1:-2] + [forward(1, 2, 1, 3), orders(1), orders(2), goes_to(1, 1), goes_to(2, 2), item(1, 1), tour(1),
+                           tour(3), done(0), done(3), item_at(1), cancel(2), hold(1, 0, 0), street_at(2), point_at(2),
+                           COUNTS]
+        for first in ([begin(3, 2)], [begin(10, 7), street(7, 8, 3), point(1, 0, 0), hold(1, 0, 9), item(1, 0), done(9)]):
+            with self.subTest(first=first):
+                self.assertEqual(run(*first, begin(3, 2), *line)[len(first):], run(begin(3, 2), *line))
+
+    def test_the_last_day_done_is_0_again(self):
+        self.assertEqual(run(done(9), done(8), begin(4, 1), done(0), done(8), done(0)),
+                         [[0, 2, 0, 0], [-6], [0], [0, 2, 0, 0], [0, 2, 0, 0], [-6]])
 
     def test_a_refusal_changes_nothing(self):
         before = run(*SOME, *ASKED)

@@ -6,7 +6,8 @@ import unittest
 
 from carrierround.house import answers
 from tests.helper import (
-    ODD, ORDER, PLAN, WALK, begin, forward, hold, judge, last, point, run, street, way)
+    COUNTS, ODD, ORDER, PLAN, WALK, begin, cancel, done, forward, goes_to, hold, item, item_at, judge, last, orders, point,
+    point_at, run, street, street_at, tour, way)
 
 
 class Beginning(unittest.TestCase):
@@ -25,6 +26,10 @@ class Beginning(unittest.TestCase):
     def test_everything_asked_of_a_new_round(self):
         self.assertEqual(run(PLAN, WALK, ORDER, ODD, way(3, 3), way(1, 2), judge()),
                          [[0, 2, 0, 0, 0], [0, 0], [0, 0], [0, 0], [0, 0], [-7], [2, 2, 0, 1]])
+
+    def test_the_last_day_done_is_0_and_there_is_no_item(self):
+        self.assertEqual(run(COUNTS, item_at(1), tour(0), done(0)), [[4, 7, 1, 0, 0, 0, 0, 0, 1], [-4], [0, 0],
+                                                                    [0, 2, 0, 0]])
 
 
 class Form(unittest.TestCase):
@@ -47,6 +52,29 @@ class Form(unittest.TestCase):
             1, 2,
             1, -1])
 
+    def test_the_whole_list_of_the_calls_by_days(self):
+        calls = (street(1, 2, 10) + point(1, 1, 4) + point(1, 0, 10) + forward(1, 2, 3, 5) + hold(1, 7, 7) + cancel(2)
+                 + item(1, 4) + goes_to(5, 1) + tour(5) + done(5) + item_at(1) + street_at(1) + point_at(1) + orders(1)
+                 + hold(1, 8, 9) + orders(1) + COUNTS)
+        self.assertEqual(answers(calls), [
+            1, 1,
+            1, 1,
+            1, 2,
+            1, 1,
+            1, 2,
+            1, 0,
+            1, 1,
+            4, 1, 2, 1, 2,
+            4, 1, 2, 1, 2,
+            4, 1, 2, 0, 0,
+            6, 1, 4, 1, 4, 2, 5,
+            6, 10, 4, 1, 2, 0, 2,
+            4, 1, 2, 1, 4,
+            6, 1, 4, 1, 2, 3, 5,
+            1, 3,
+            11, 2, 4, 1, 2, 3, 5, 4, 3, 0, 8, 9,
+            9, 4, 7, 1, 1, 2, 2, 1, 5, 1])
+
     def test_rows_of_nothing_have_their_count(self):
         self.assertEqual(answers(PLAN), [5, 0, 2, 0, 0, 0])
         self.assertEqual(answers(WALK), [2, 0, 0])
@@ -54,13 +82,22 @@ class Form(unittest.TestCase):
         self.assertEqual(answers(ODD), [2, 0, 0])
         self.assertEqual(answers(way(2, 2)), [2, 0, 0])
         self.assertEqual(answers(street(2, 3, 1) + judge(1)), [1, 1, 2, 0, 0])
+        self.assertEqual(answers(tour(0)), [2, 0, 0])
+
+    def test_orders_without_an_order_has_no_row(self):
+        self.assertEqual(answers(street(1, 2, 3) + point(1, 0, 0) + orders(1)), [1, 1, 1, 1, 1, 0])
 
     def test_a_refusal_is_its_number_alone(self):
         self.assertEqual(answers(street(2, 3, 1) + PLAN + WALK + ORDER + ODD + way(1, 2) + judge(2) + begin(0, 0)),
                          [1, 1, 1, -7, 1, -7, 1, -7, 1, -7, 1, -7, 1, -2, 1, -1])
+        self.assertEqual(answers(cancel(1) + item(1, 0) + goes_to(0, 1) + street(2, 3, 1) + tour(0) + done(0) + item_at(0)
+                                 + street_at(2) + point_at(1) + orders(1)),
+                         [1, -4, 1, -4, 1, -4, 1, 1, 1, -7, 1, -7, 1, -1, 1, -4, 1, -4, 1, -4])
 
     def test_a_list_of_whole_numbers(self):
-        given = answers(street(1, 2, 3, 1) + point(1, 1, 3) + PLAN + WALK + ORDER + ODD + way(1, 2) + judge(1, 1))
+        given = answers(street(1, 2, 3, 1) + point(1, 1, 3) + PLAN + WALK + ORDER + ODD + way(1, 2) + judge(1, 1)
+                        + hold(1, 5, 5) + item(1, 0) + goes_to(0, 1) + tour(0) + done(0) + item_at(1) + street_at(1)
+                        + point_at(1) + orders(1) + COUNTS + cancel(1))
         self.assertIs(type(given), list)
         self.assertEqual({type(number) for number in given}, {int})
 
@@ -74,6 +111,9 @@ class Reading(unittest.TestCase):
         self.assertEqual(run(begin(0, 1), street(0, 0, 0, 0), point(0, 0, 0), way(0, 0), judge(3, 4, 5),
                              forward(0, 0, -1, 0), hold(0, 0, 0), street(1, 2, 3)),
                          [[-1], [-1], [-1], [-1], [-2], [-1], [-1], [1]])
+        self.assertEqual(run(cancel(0), item(0, 0), goes_to(0, 0), tour(-1), done(-1), item_at(0), street_at(0),
+                             point_at(0), orders(0), street(1, 2, 3), COUNTS),
+                         [[-1]] * 9 + [[1], [4, 7, 1, 1, 0, 0, 0, 0, 1]])
 
     def test_400_calls_of_which_60_are_walk_and_order(self):
         calls = [street(1, 2, 3)] + [WALK, ORDER] * 30 + [PLAN] * 339
@@ -89,7 +129,9 @@ class Reading(unittest.TestCase):
 
 class NothingKeptNothingChanged(unittest.TestCase):
     CALLS = (begin(3, 2) + street(1, 2, 5) + street(2, 3, 6, 1) + point(1, 0, 2) + point(2, 1, 6) + PLAN + WALK
-             + ORDER + ODD + way(1, 3) + judge(1, 1, 2, 2) + forward(1, 2, 0, 9) + hold(1, 3, 3) + street(9, 9, 9, 9))
+             + ORDER + ODD + way(1, 3) + judge(1, 1, 2, 2) + forward(1, 2, 0, 9) + hold(1, 3, 3) + street(9, 9, 9, 9)
+             + item(1, 2) + item(2, 8) + goes_to(2, 1) + tour(2) + done(2) + item_at(1) + street_at(1) + point_at(2)
+             + orders(1) + cancel(1) + COUNTS + done(1))
 
     def test_what_is_handed_in_stays_as_it_was(self):
         calls = list(self.CALLS)
@@ -110,6 +152,8 @@ class NothingKeptNothingChanged(unittest.TestCase):
         self.assertEqual(answers(self.CALLS), answers(self.CALLS))
         self.assertEqual(answers(street(1, 2, 3)), [1, 1])
         self.assertEqual(answers(judge(1)), [1, -2])
+        self.assertEqual(answers(COUNTS), [9, 4, 7, 1, 0, 0, 0, 0, 0, 1])
+        self.assertEqual(answers(done(0)), [4, 0, 2, 0, 0])
 
     def test_what_was_given_back_may_be_changed(self):
         given = answers(self.CALLS)
